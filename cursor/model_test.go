@@ -241,6 +241,7 @@ func TestViewsAndATransaction(t *testing.T) {
 		// The room's error is handed on where a page is read.
 		s := all[0]
 		s.v.Close()
+		same(t, "where it stands in a closed view", stands(s.c), string(s.cells[s.at+1].Key))
 		same(t, "Last of a closed view", s.c.Last(), false)
 		same(t, "Err", s.c.Err(), api.ErrOver)
 		same(t, "Scan of a closed view", told(s.v, s.root, "", "", false), "113")
