@@ -1,4 +1,4 @@
-// Package cell says what cells may be, for the pages of either engine: see shared/doc/06-plain.md, section Cells.
+// Package cell says what cells may be, for the pages of either engine: see shared/doc/06-plain.md, section Cells; and what names may be, by which the catalog tells trees.
 package cell
 
 import "espalier/api"

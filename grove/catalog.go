@@ -5,27 +5,6 @@ import "espalier/api"
 // catalog is the tree that tells where the others are.
 type catalog struct{ trunk }
 
-// isName tells whether a tree may have that name.
-func isName(name string) bool {
-	if len(name) == 0 || len(name) > api.MaxName {
-		return false
-	}
-	for i := range len(name) {
-		if !isOfNames(name[i]) {
-			return false
-		}
-	}
-	return true
-}
-
-func isOfNames(b byte) bool {
-	switch b {
-	case '-', '_', '.', '/':
-		return true
-	}
-	return b >= 'a' && b <= 'z' || b >= '0' && b <= '9'
-}
-
 // tree is the tree of that name.
 func (c *catalog) tree(name string) (*named, api.Errno) {
 	told, is, e := c.find([]byte(name))
